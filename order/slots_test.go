@@ -165,7 +165,7 @@ func TestSlotsOnceAndBehind(t *testing.T) {
 	}
 }
 
-// P15.3: at most Between and 2 are held; more than one only where a PictureB waits.
+// P15.3: at most Between and 2 are held. In fact it is one, and two where a picture is told ahead of a PictureB.
 func TestSlotsHeld(t *testing.T) {
 	for _, p := range plans(0) {
 		for n := 1; n <= 200; n++ {
@@ -175,8 +175,11 @@ func TestSlotsHeld(t *testing.T) {
 			if e != api.OK || len(places) != n || most > p.Between+2 {
 				t.Fatalf("%d, %+v: %v, %d, %d", n, p, places, most, e)
 			}
-			waits := slices.ContainsFunc(l, func(s api.Slot) bool { return s.Kind == 2 })
-			if (most > 1) != waits {
+			want := 1
+			if slices.ContainsFunc(l, func(s api.Slot) bool { return s.Kind == 2 }) {
+				want = 2
+			}
+			if most != want {
 				t.Fatalf("%d, %+v: %d", n, p, most)
 			}
 			for place, at := range places {
